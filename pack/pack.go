@@ -46,11 +46,10 @@ func Of(b []byte) *Reader {
 	return &Reader{left: slices.Clone(b)}
 }
 
-// take is the next n bytes. A bad Reader has none left, so that nothing can be read from it by mistake.
+// take is the next n bytes; none, if they are not there. It is the one place where a Reader becomes bad, so that it stays so.
 func (r *Reader) take(n int) []byte {
 	if r.bad || n < 0 || n > len(r.left) {
 		r.bad = true
-		r.left = nil
 		return nil
 	}
 	b := r.left[:n]
